@@ -1,0 +1,1 @@
+"""Lendroads: undirected networks with edges of negative length."""
