@@ -1,4 +1,4 @@
-"""What names, lengths and edges are, and which nodes are odd."""
+"""What names, lengths and edges are, and what sets of edges have in common."""
 
 from lendroads.limits import MAX_LENGTH
 
@@ -28,6 +28,21 @@ def edge_in_order(edge):
     return name, min(u, v), max(u, v), length
 
 
+def names_of(edges):
+    """The names of the edges, a tuple, in their order."""
+    return tuple([edge[0] for edge in edges])
+
+
+def sum_of_lengths(edges):
+    """The length of all the edges together."""
+    return sum([edge[3] for edge in edges])
+
+
+def other_end(edge, node):
+    """The end of an edge that is not this one of its ends."""
+    return edge[2] if edge[1] == node else edge[1]
+
+
 def negative_edges(edges):
     """The list of the edges with a negative length."""
     return [edge for edge in edges if edge[3] < 0]
@@ -40,3 +55,19 @@ def odd_nodes(edges):
         for node in edge[1:3]:
             counts[node] = counts.get(node, 0) + 1
     return tuple(sorted([node for node in counts if counts[node] & 1]))
+
+
+def cut_edges(edges, nodes):
+    """The list of the edges with exactly one end among the nodes."""
+    return [edge for edge in edges if (edge[1] in nodes) != (edge[2] in nodes)]
+
+
+def edges_by_node(edges):
+    """A dict from each node at which an edge ends to the list of these edges, in their order."""
+    found = {}
+    for edge in edges:
+        for node in edge[1:3]:
+            if node not in found:
+                found[node] = []
+            found[node].append(edge)
+    return found

@@ -8,8 +8,26 @@ import unittest
 
 PACKAGE = pathlib.Path(__file__).resolve().parent.parent / "lendroads"
 
-# The interface as far as it has landed (the error classes: test_errors.py).
-INTERFACE = {"texts": ["network_text", "read_parts"]}
+# The interface as far as it has landed (the error classes: test_errors.py): functions, and classes with methods.
+INTERFACE = {
+    "texts": ["network_text", "read_parts"],
+    "networks": ["Network"],
+    "edgesets": ["EdgeSet"],
+    "paths": ["Path", "all_paths", "all_cycles"],
+    "calm": ["is_calm", "negative_cycle", "calm_certificate", "accepts_calm", "join_certificate", "accepts_join",
+             "accepts_path"],
+}
+MEMBERS = {
+    "Network": "__init__ ring chain nodes edges names length text __len__ __contains__ __getitem__ __eq__ edges_at "
+               "parts with_nodes with_edges without_nodes without_edges with_lengths read",
+    "EdgeSet": "__init__ listed network names odd length is_path is_cycle __xor__ __or__ __and__ __sub__ __eq__ "
+               "__contains__ __len__ is_within split cut",
+    "Path": "__init__ along network start end nodes edges length edge_set rank __add__ __neg__ __eq__ __contains__ "
+            "__getitem__ __len__",
+}
+PROPERTIES = {
+    "Network": {"nodes", "edges", "names", "length", "text"}, "EdgeSet": {"network", "names", "odd", "length"},
+    "Path": {"network", "start", "end", "nodes", "edges", "length", "edge_set", "rank"}}
 
 LIBRARY = {
     "heapq": {"heappush", "heappop", "heapify", "heapreplace", "heappushpop"},
@@ -46,6 +64,19 @@ def nodes_of(*kinds):
 
 def is_docstring(node):
     return isinstance(node, ast.Expr) and isinstance(node.value, ast.Constant) and isinstance(node.value.value, str)
+
+
+def classes():
+    return {node.name: node for _, node in nodes_of(ast.ClassDef)}
+
+
+def methods_of(node):
+    return {one.name: one for one in node.body if isinstance(one, ast.FunctionDef)}
+
+
+def marks_of(function):
+    """The names of the decorators."""
+    return [getattr(mark, "id", None) for mark in function.decorator_list]
 
 
 class Language(unittest.TestCase):
@@ -103,6 +134,56 @@ class Language(unittest.TestCase):
         for name, node in nodes_of(ast.Call):
             if isinstance(node.func, ast.Attribute):
                 self.assertIn(node.func.attr, METHODS | own, (name, node.lineno))
+
+    def test_members_are_defined_in_their_class(self):
+        for name, members in MEMBERS.items():
+            self.assertLessEqual(set(members.split()), set(methods_of(classes()[name])), name)
+            marked = {key for key, one in methods_of(classes()[name]).items() if marks_of(one) == ["property"]}
+            self.assertEqual(marked, PROPERTIES[name], name)
+
+    def test_names_of_properties_and_static_methods_mean_nothing_else(self):
+        kinds = {}
+        for node in classes().values():
+            for name, method in methods_of(node).items():
+                kinds.setdefault(name, []).append(marks_of(method))
+        stored = {node.attr for _, node in nodes_of(ast.Attribute) if isinstance(node.ctx, ast.Store)}
+        for name, marks in kinds.items():
+            if ["property"] in marks:
+                self.assertEqual(marks, [["property"]] * len(marks), name)
+            elif [] not in marks:
+                self.assertNotIn(name, METHODS, name)
+            if not name.startswith("__"):
+                self.assertNotIn(name, stored, name)
+
+    def test_what_is_indexed_is_not_iterated_over_by_index(self):
+        for name, node in classes().items():
+            if "__getitem__" in methods_of(node):
+                self.assertIn("__iter__", methods_of(node), name)
+        for path, text in sources():
+            for words in ("(type)", "Meta", "metaclass="):
+                self.assertNotIn(words, text, path)
+
+    def test_sorted_and_the_like_take_lists(self):
+        for name, node in nodes_of(ast.Call):
+            if getattr(node.func, "id", None) in ("any", "all", "min", "max", "sum", "sorted"):
+                self.assertNotIsInstance(node.args[0], ast.GeneratorExp, (name, node.lineno))
+            self.assertNotEqual(getattr(node.func, "attr", None), "sort", (name, node.lineno))
+
+    def test_equality_has_the_simple_form(self):
+        for name, node in classes().items():
+            if "__eq__" in methods_of(node):
+                [only] = methods_of(node)["__eq__"].body
+                self.assertTrue(ast.unparse(only).startswith(f"return isinstance(other, {name}) and "), name)
+
+    def test_no_file_imports_itself_through_others(self):
+        above = {path.stem: {node.module.split(".")[1] for node in ast.walk(ast.parse(text))
+                             if isinstance(node, ast.ImportFrom) and node.module.startswith("lendroads.")}
+                 for path, text in sources()}
+        while above:
+            lowest = [name for name, modules in above.items() if not modules & set(above)]
+            self.assertTrue(lowest, above)
+            for name in lowest:
+                del above[name]
 
     def test_interface_is_defined_where_it_is_listed(self):
         for module, names in INTERFACE.items():

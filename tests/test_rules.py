@@ -1,8 +1,10 @@
-"""Promise [2] about integers and names, and the odd nodes of [12]."""
+"""Promise [2] about integers and names, the odd nodes of [12], and the cuts of [13]."""
 
 import unittest
 
-from lendroads.rules import edge_in_order, is_length, is_name, is_whole, negative_edges, odd_nodes
+from lendroads.rules import (
+    cut_edges, edge_in_order, edges_by_node, is_length, is_name, is_whole, names_of, negative_edges, odd_nodes,
+    other_end, sum_of_lengths)
 
 
 class Rules(unittest.TestCase):
@@ -42,6 +44,25 @@ class Rules(unittest.TestCase):
         self.assertEqual(odd_nodes([("x", "a", "b", 1), ("y", "c", "b", 5)]), ("a", "c"))
         star = [(name, "m", name, 0) for name in "zyx"]
         self.assertEqual(odd_nodes(star), ("m", "x", "y", "z"))
+
+    def test_names_and_lengths_of_edges(self):
+        edges = [("y", "a", "b", -1), ("x", "a", "b", 4)]
+        self.assertEqual([names_of(edges), names_of(())], [("y", "x"), ()])
+        self.assertEqual([sum_of_lengths(edges), sum_of_lengths(())], [3, 0])
+
+    def test_other_end(self):
+        self.assertEqual([other_end(("x", "a", "b", 1), "a"), other_end(("x", "a", "b", 1), "b")], ["b", "a"])
+
+    def test_cuts(self):
+        edges = [("x", "a", "b", 1), ("y", "b", "c", 1), ("z", "a", "c", 1)]
+        self.assertEqual(cut_edges(edges, ("a",)), [edges[0], edges[2]])
+        self.assertEqual(cut_edges(edges, ("a", "b")), [edges[1], edges[2]])
+        self.assertEqual([cut_edges(edges, ()), cut_edges(edges, ("a", "b", "c", "d"))], [[], []])
+
+    def test_edges_by_node(self):
+        edges = [("y", "a", "b", 1), ("x", "b", "c", 1)]
+        self.assertEqual(edges_by_node(edges), {"a": edges[:1], "b": edges, "c": edges[1:]})
+        self.assertEqual(edges_by_node([]), {})
 
 
 if __name__ == "__main__":
