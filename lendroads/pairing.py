@@ -2,7 +2,7 @@
 
 from heapq import heappop, heappush
 
-from lendroads.rules import edges_by_node, odd_nodes, other_end
+from lendroads.rules import edges_by_node, edges_without, names_of, negative_edges, odd_nodes, other_end
 
 
 class LeastJoins:
@@ -87,6 +87,16 @@ class LeastJoins:
             names.append(last[node])
             node = other_end(self._edge_of[last[node]], node)
         return names
+
+
+def joins_of(edges):
+    """What finds the least joins of these edges."""
+    return LeastJoins(edges, names_of(negative_edges(edges)))
+
+
+def joins_without(edges, name):
+    """What finds the least joins of these edges that do not contain this one of them."""
+    return joins_of(edges_without(edges, name))
 
 
 def routes_from(steps, start):

@@ -102,6 +102,13 @@ def _nodes_along(start, edges):
     return tuple(nodes)
 
 
+def path_within(edge_set, u, v):
+    """Any path from u to v in an edge set in which there is one."""
+    network = edge_set.network
+    edges = [network[name] for name in edge_set.names]
+    return Path.along(network, u, names_of(find_paths(edges, u, v, 1)[0]))
+
+
 def all_paths(network, u, v, *, most=1000):
     """Yields all paths from u to v, in ascending order of their ranks."""
     check_known_node(network, u)

@@ -48,6 +48,16 @@ def negative_edges(edges):
     return [edge for edge in edges if edge[3] < 0]
 
 
+def turned_edges(edges, names):
+    """The list of all the edges, those with these names turned."""
+    return [(name, u, v, -length if name in names else length) for name, u, v, length in edges]
+
+
+def edges_without(edges, name):
+    """The list of the other edges."""
+    return [edge for edge in edges if edge[0] != name]
+
+
 def odd_nodes(edges):
     """The nodes at which an odd number of the edges end, a tuple, ascending."""
     counts = {}

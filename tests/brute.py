@@ -79,6 +79,18 @@ def paths_of(edges, u, v):
     return found
 
 
+def shortest_paths(edges, u, v):
+    """All shortest paths from u to v, lists of edges."""
+    found = paths_of(edges, u, v)
+    least = min(map(length_of, found), default=None)
+    return [path for path in found if length_of(path) == least]
+
+
+def distance(edges, u, v):
+    """The least length of all paths, or None."""
+    return min(map(length_of, paths_of(edges, u, v)), default=None)
+
+
 def parts_of(nodes, edges):
     """The parts as sorted tuples, in the order of their least nodes."""
     part_of = {node: {node} for node in nodes}
@@ -130,6 +142,26 @@ def small_networks(count, most_edges, lengths=(-3, -2, -1, 0, 0, 1, 1, 2, 3, 4))
     for _ in range(count):
         nodes = names(chance.randint(2, 6))
         yield nodes, random_edges(chance, nodes, chance.randint(0, most_edges), lengths)
+
+
+def small_calm_networks(count, most_edges):
+    """The same, but only the calm ones among them, and some whose negative edges have many odd nodes."""
+    networks = [*small_networks(count, most_edges), *(many_odd_nodes(seed) for seed in range(count // 10))]
+    return [(nodes, edges) for nodes, edges in networks if is_calm(edges)]
+
+
+def many_odd_nodes(seed):
+    """A tuple (nodes, edges) with 12 edges, whose negative ones have 10 odd nodes."""
+    chance = random.Random(seed)
+    nodes = names(11)
+    matching = [("n" + nodes[at], nodes[at], nodes[at + 1], -chance.randint(1, 2)) for at in range(0, 10, 2)]
+    more = [("p" + name, *chance.sample(nodes, 2), chance.randint(0, 3)) for name in names(7)]
+    return nodes, matching + more
+
+
+def has_few_odd_nodes(edges):
+    """True if a network may have these edges, as to the odd nodes of the negative ones."""
+    return len(odd_of([edge for edge in edges if edge[3] < 0])) <= 10
 
 
 def pairings(points):

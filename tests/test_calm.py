@@ -10,7 +10,7 @@ from tools import NO_NAMES, Case
 from lendroads.calm import (
     accepts_calm, accepts_join, accepts_path, calm_certificate, is_calm, join_certificate, negative_cycle)
 from lendroads.edgesets import EdgeSet
-from lendroads.errors import NotCalm, NotLeast, TooMany
+from lendroads.errors import NotLeast, TooMany
 from lendroads.networks import Network
 from lendroads.paths import Path, all_cycles, all_paths
 
@@ -23,19 +23,6 @@ def small(count, most_edges):
         yield Network(nodes, edges)
 
 
-def many_odd_nodes(seed):
-    """A network with up to 12 edges, whose negative ones have 10 odd nodes."""
-    chance = random.Random(seed)
-    nodes = brute.names(11)
-    matching = [("n" + nodes[at], nodes[at], nodes[at + 1], -chance.randint(1, 2)) for at in range(0, 10, 2)]
-    more = [("p" + name, *chance.sample(nodes, 2), chance.randint(0, 3)) for name in brute.names(7)]
-    return Network(nodes, matching + more)
-
-
-def has_few_odd_nodes(edges):
-    return len(brute.odd_of([edge for edge in edges if edge[3] < 0])) <= 10
-
-
 class CalmCase(Case):
     def check_certificate(self, network, value, turned=()):
         edges = brute.turned(network.edges, turned)
@@ -45,12 +32,6 @@ class CalmCase(Case):
         self.assertTrue(brute.is_certificate(network.nodes, edges, value))
         self.assertTrue(brute.is_nested(value))
 
-    def check_negative_cycle(self, network, cycle):
-        self.assertIs(type(cycle), EdgeSet)
-        self.assertEqual(cycle.network, network)
-        self.assertTrue(brute.is_cycle([network[name] for name in cycle.names]))
-        self.assertLess(cycle.length, 0)
-
     def check_network(self, network, calm):
         self.assertIs(is_calm(network), calm)
         if calm:
@@ -59,9 +40,7 @@ class CalmCase(Case):
             self.assertIs(accepts_calm(network, calm_certificate(network)), True)
         else:
             self.check_negative_cycle(network, negative_cycle(network))
-            with self.assertRaises(NotCalm) as held:
-                calm_certificate(network)
-            self.check_negative_cycle(network, held.exception.cycle)
+            self.assert_not_calm(network, calm_certificate, network)
 
 
 class CalmNetworks(CalmCase):
@@ -79,7 +58,7 @@ class CalmNetworks(CalmCase):
     def test_small_networks_with_many_odd_nodes(self):
         calm = []
         for seed in range(40):
-            network = many_odd_nodes(seed)
+            network = Network(*brute.many_odd_nodes(seed))
             calm.append(brute.is_calm(network.edges))
             self.check_network(network, calm[-1])
         self.assertTrue(5 < sum(calm) < 35)
@@ -119,7 +98,7 @@ class CalmNetworks(CalmCase):
         count = 0
         for seed in range(12):
             nodes, edges = brute.large_network(seed, odd_count=4, shortest=0, longest=3)
-            if has_few_odd_nodes(edges):
+            if brute.has_few_odd_nodes(edges):
                 self.check_network(Network(nodes, edges), True)
                 count += 1
         self.assertGreater(count, 5)
@@ -146,7 +125,7 @@ class CalmNetworks(CalmCase):
         others = [edge for edge in network.edges if edge[0] != name]
         for change, calm in ((by, True), (by + 1, False)):
             edges = [*others, (name, u, v, length - change)]
-            if has_few_odd_nodes(edges):
+            if brute.has_few_odd_nodes(edges):
                 self.check_network(Network(network.nodes, edges), calm)
 
     def test_equal_calls(self):
@@ -297,7 +276,7 @@ class Joins(CalmCase):
 
     def test_sets_with_many_odd_nodes(self):
         for seed in range(10):
-            network = many_odd_nodes(seed)
+            network = Network(*brute.many_odd_nodes(seed))
             lengths = brute.least_lengths(network.edges)
             for some in random.Random(seed).sample(brute.subsets(network.edges), 60):
                 edge_set = EdgeSet.listed(network, [edge[0] for edge in some])

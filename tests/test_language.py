@@ -16,6 +16,9 @@ INTERFACE = {
     "paths": ["Path", "all_paths", "all_cycles"],
     "calm": ["is_calm", "negative_cycle", "calm_certificate", "accepts_calm", "join_certificate", "accepts_join",
              "accepts_path"],
+    "distances": ["distance", "distances", "shortest_path", "is_shortest", "needed_edges"],
+    "joins": ["join_length", "least_join", "pairs"],
+    "cycles": ["shortest_cycle", "shortest_cycle_through", "fall", "free_edges"],
 }
 MEMBERS = {
     "Network": "__init__ ring chain nodes edges names length text __len__ __contains__ __getitem__ __eq__ edges_at "

@@ -2,6 +2,11 @@
 
 import unittest
 
+import brute
+
+from lendroads.edgesets import EdgeSet
+from lendroads.errors import NotCalm
+
 DEEP = [[[[[[[["a"]]]]]]]]
 # Any values that are no names; some of them are equal to others, but of another kind.
 NO_NAMES = [
@@ -20,6 +25,19 @@ class Case(unittest.TestCase):
         self.assertEqual(found, field)
         self.assertIs(type(found), type(field))
         return found
+
+    def assert_not_calm(self, network, call, *args, **kwargs):
+        """The call raises NotCalm with a cycle of this network that has a negative length."""
+        with self.assertRaises(NotCalm) as held:
+            call(*args, **kwargs)
+        self.assertIs(type(held.exception), NotCalm)
+        self.check_negative_cycle(network, held.exception.cycle)
+
+    def check_negative_cycle(self, network, cycle):
+        self.assertIs(type(cycle), EdgeSet)
+        self.assertEqual(cycle.network, network)
+        self.assertTrue(brute.is_cycle([network[name] for name in cycle.names]))
+        self.assertLess(cycle.length, 0)
 
     def assert_plain(self, value):
         """The value is made of plain built-in values alone."""
