@@ -33,6 +33,11 @@ def calm_joins(network, *nodes):
     return least_joins
 
 
+def check_calm(network):
+    """Raises NotCalm if the network is not calm."""
+    calm_joins(network)
+
+
 def calm_certificate(network):
     """A calm certificate; raises NotCalm if the network is not calm."""
     return nested_certificate(network.nodes, network.edges, calm_joins(network))

@@ -1,6 +1,6 @@
 """Shortest cycles in calm networks, and how far the lengths of edges may fall."""
 
-from lendroads.calm import calm_joins
+from lendroads.calm import check_calm
 from lendroads.checks import check_known_edge
 from lendroads.edgesets import EdgeSet
 from lendroads.pairing import joins_without
@@ -18,14 +18,14 @@ def shortest_cycle(network):
 def shortest_cycle_through(network, name):
     """A cycle of least length among those that contain an edge, or None if there is none."""
     check_known_edge(network, name)
-    calm_joins(network)
+    check_calm(network)
     return _cycle_through(network, name)
 
 
 def fall(network, name):
     """By how much the length of an edge may fall while the network stays calm, or None if it is in no cycle."""
     check_known_edge(network, name)
-    calm_joins(network)
+    check_calm(network)
     return _length_through(network, name)
 
 
@@ -37,7 +37,7 @@ def free_edges(network):
 
 def _lengths_through(network):
     """A dict from the edges that are in a cycle, ascending, to the least lengths of these cycles."""
-    calm_joins(network)
+    check_calm(network)
     lengths = {name: _length_through(network, name) for name in network.names}
     return {name: lengths[name] for name in lengths if lengths[name] is not None}
 

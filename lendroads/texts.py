@@ -36,6 +36,11 @@ def read_parts(text):
     return tuple(nodes), tuple(edges)
 
 
+def number_text(number):
+    """A number as a word, and None as a dash."""
+    return "-" if number is None else str(number)
+
+
 def is_number(word):
     """True if a word is a decimal integer without leading zeros and plus signs."""
     digits = word.removeprefix("-")

@@ -8,7 +8,7 @@ import unittest
 
 PACKAGE = pathlib.Path(__file__).resolve().parent.parent / "lendroads"
 
-# The interface as far as it has landed (the error classes: test_errors.py): functions, and classes with methods.
+# The interface (the error classes: test_errors.py): functions, and classes with methods.
 INTERFACE = {
     "texts": ["network_text", "read_parts"],
     "networks": ["Network"],
@@ -19,6 +19,10 @@ INTERFACE = {
     "distances": ["distance", "distances", "shortest_path", "is_shortest", "needed_edges"],
     "joins": ["join_length", "least_join", "pairs"],
     "cycles": ["shortest_cycle", "shortest_cycle_through", "fall", "free_edges"],
+    "changes": ["turned", "distance_under", "distance_range"],
+    "survey": ["within", "nearest", "farthest", "center", "table"],
+    "books": ["Book", "CalmBook", "LoggedBook", "CalmLoggedBook"],
+    "console": ["Console"],
 }
 MEMBERS = {
     "Network": "__init__ ring chain nodes edges names length text __len__ __contains__ __getitem__ __eq__ edges_at "
@@ -27,10 +31,19 @@ MEMBERS = {
                "__contains__ __len__ is_within split cut",
     "Path": "__init__ along network start end nodes edges length edge_set rank __add__ __neg__ __eq__ __contains__ "
             "__getitem__ __len__",
+    "Book": "__init__ change is_calm network undoable redoable depth undo redo distance shortest_path certificate "
+            "trial in_trial __eq__",
+    "CalmBook": "__init__",
+    "LoggedBook": "log",
+    "CalmLoggedBook": "",
+    "Trial": "__enter__ __exit__ keep kept",
+    "Console": "__init__ run book __call__",
 }
 PROPERTIES = {
     "Network": {"nodes", "edges", "names", "length", "text"}, "EdgeSet": {"network", "names", "odd", "length"},
-    "Path": {"network", "start", "end", "nodes", "edges", "length", "edge_set", "rank"}}
+    "Path": {"network", "start", "end", "nodes", "edges", "length", "edge_set", "rank"},
+    "Book": {"network", "undoable", "redoable", "depth"}, "CalmBook": set(), "LoggedBook": {"log"},
+    "CalmLoggedBook": set(), "Trial": {"kept"}, "Console": {"book"}}
 
 LIBRARY = {
     "heapq": {"heappush", "heappop", "heapify", "heapreplace", "heappushpop"},

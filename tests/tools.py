@@ -16,7 +16,7 @@ NO_NAMES = [
 
 
 class Case(unittest.TestCase):
-    def assert_error(self, kind, field, call, *args, **kwargs):
+    def assert_error(self, kind, field, call, /, *args, **kwargs):
         """The call raises just this error with an equal field of the same kind; returns the field."""
         with self.assertRaises(kind) as held:
             call(*args, **kwargs)
@@ -26,7 +26,7 @@ class Case(unittest.TestCase):
         self.assertIs(type(found), type(field))
         return found
 
-    def assert_not_calm(self, network, call, *args, **kwargs):
+    def assert_not_calm(self, network, call, /, *args, **kwargs):
         """The call raises NotCalm with a cycle of this network that has a negative length."""
         with self.assertRaises(NotCalm) as held:
             call(*args, **kwargs)
